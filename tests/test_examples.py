@@ -1,0 +1,58 @@
+"""Each example of shared/DOC.md that stands under the heading of a module that exists."""
+
+import ast
+import pathlib
+import unittest
+
+from leastgates.errors import GatesError
+
+ROOT = pathlib.Path(__file__).resolve().parent.parent
+DOC = ROOT.parent / "shared" / "DOC.md"
+
+
+def examples():
+    """Triples of a module, the lines behind >>> and the told answer."""
+    found = []
+    name, rows = "", []
+    for line in DOC.read_text(encoding="utf-8").split("\n"):
+        if line.startswith("## "):
+            name = line[3:]
+        if line.startswith(">>> "):
+            rows.append(line[4:])
+        elif rows and line:
+            found.append((name, rows, line))
+            rows = []
+        elif rows:
+            raise AssertionError(f"an example without an answer under {name}")
+    return [example for example in found if (ROOT / example[0]).is_file()]
+
+
+def answer(rows):
+    """What the last row gives, as the document tells it."""
+    names = {}
+    try:
+        exec("\n".join(rows[:-1]), names)
+        return repr(eval(rows[-1], names))
+    except GatesError as error:
+        fields = ", ".join(f"{name}={value!r}" for name, value in vars(error).items())
+        return f"raises {type(error).__name__}({fields})"
+
+
+def same(told, found):
+    if told.startswith("raises "):
+        return told == found
+    return not found.startswith("raises ") and ast.literal_eval(told) == ast.literal_eval(found)
+
+
+@unittest.skipUnless(DOC.is_file(), "shared/DOC.md is not here")
+class Examples(unittest.TestCase):
+    def test_each_example(self):
+        found = examples()
+        self.assertGreaterEqual(len(found), 10)
+        for name, rows, told in found:
+            with self.subTest(module=name, rows=rows):
+                self.assertTrue(same(told, answer(rows)), answer(rows))
+
+
+if __name__ == "__main__":
+    unittest.main()

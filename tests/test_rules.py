@@ -1,0 +1,161 @@
+"""The rules of shared/LANGUAGE.md for each file of the package, and the checks themselves."""
+
+import importlib
+import inspect
+import pathlib
+import unittest
+
+from tests.rules import faults
+
+FOLDER = pathlib.Path(__file__).resolve().parent.parent / "leastgates"
+DEFINED = {
+    "lots": "lot_of both common minus rest parts all_sides lots_between corners crosses",
+    "nets": "Net Oneway Twoway check_twoway all_lot",
+    "texts": "net_text net_from",
+    "costs": "world_of cost amount spared spared_apart added net_told",
+    "shapes": "shrunk behind lifted glued merged",
+    "flows": "flow flow_between greatest_flow is_flow_row row_value",
+    "leasts": "least_sides first_side last_side is_least fit_sides share",
+    "leftover": "steps_left closed grow_closed",
+    "raising": "raised by_capacity sides_behind",
+    "tables": "FlowTable lesser_two net_of_table",
+    "holding": "holds breaking_lot holders_of held_lots greatest_held holder_table rectangle",
+    "fillings": "filling is_filling wrong_at",
+    "gluing": "glue parted",
+    "joining": "joined Held",
+}
+PARAMETERS = {
+    ("lots", "all_sides"): "(size, *, with_place=None)",
+    ("lots", "lots_between"): "(inner, outer)",
+    ("lots", "parts"): "(lot, one, other)",
+    ("costs", "added"): "(net, world, *worlds)",
+    ("costs", "net_told"): "(singles, doubles)",
+    ("shapes", "glued"): "(net, other, *others)",
+    ("shapes", "lifted"): "(size, lot, side)",
+    ("flows", "is_flow_row"): "(net, world, sources, sinks, row)",
+    ("flows", "row_value"): "(net, sources, row)",
+    ("leasts", "fit_sides"): "(size, sources, sinks)",
+    ("leasts", "is_least"): "(net, world, sources, sinks, side)",
+    ("leasts", "share"): "(net, one, other, sources, sinks)",
+    ("leftover", "grow_closed"): "(size, steps, lot)",
+    ("raising", "raised"): "(net, world, tie, by)",
+    ("tables", "lesser_two"): "(table, p, q, r)",
+    ("tables", "net_of_table"): "(size, rows)",
+    ("holding", "greatest_held"): "(net, world, holders, misses)",
+    ("fillings", "wrong_at"): "(net, world, holders, lot, row)",
+    ("gluing", "glue"): "(net, lot, here, there)",
+    ("joining", "joined"): "(one_holders, one_lot, other_holders, other_lot)",
+    ("joining", "Held"): "(net, world, holders, lot)",
+    ("nets", "Net"): "(size, ties)",
+    ("nets", "Oneway"): "(size, ties)",
+    ("nets", "Twoway"): "(size, ties)",
+    ("tables", "FlowTable"): "(net, world)",
+}
+
+WRONG = [
+    ("L2", "from leastgates.other import *\n"),
+    ("L2", "from os.path import join\n"),
+    ("L2", "from itertools import product\n"),
+    ("L2", "A = 1\nfrom math import gcd\n"),
+    ("L3", "A = len((1, 2))\n"),
+    ("L3", "A, B = 1, 2\n"),
+    ("L3", "for k in (1, 2):\n    pass\n"),
+    ("L4", "def f(x=[]):\n    return x\n"),
+    ("L4", "def keep(f):\n    return f\n\n\n@keep\ndef g():\n    return 1\n"),
+    ("L5", "class A:\n    def __hash__(self):\n        return 1\n"),
+    ("L5", "class A:\n    x: int = 1\n"),
+    ("L5", "class A:\n    def __add__(self, other):\n        self.n = 1\n        return self\n"),
+    ("L5", "class A:\n    def __neg__(self):\n        return f([1])\n\n\ndef f(xs):\n    xs.append(1)\n    return xs\n"),
+    ("L5", "class A:\n    @property\n    def n(self):\n        return f(1)\n\n\ndef f(x):\n    k = 1\n    k += x\n    return k\n"),
+    ("L5", "class A:\n    def __getitem__(self, at):\n        return at\n"),
+    ("L5", "def f():\n    return [NotImplemented]\n"),
+    ("L6", "def f(x):\n    with x:\n        pass\n"),
+    ("L6", "def f():\n    try:\n        return 1\n    finally:\n        pass\n"),
+    ("L6", "def f(x):\n    if (k := x):\n        return k\n"),
+    ("L7", "def f(x):\n    return x / 2\n"),
+    ("L7", "def f(x):\n    return x * 1.5\n"),
+    ("L7", "def f(xs):\n    return any(x for x in xs)\n"),
+    ("L8", "def f(x):\n    return hash(x)\n"),
+    ("L8", "def f(x):\n    print(x)\n"),
+    ("L10", "def f():\n" + "    f()\n" * 40),
+    ("L10", "# " + "x" * 119 + "\n"),
+    ("L10", "# x\n" * 400),
+    ("L12", "def f(xs):\n    return [_ for _ in xs]\n"),
+    ("L14", "# \u00e9\n"),
+    ("L15", "A = 1\nA = 2\n"),
+    ("L15", "def f(id):\n    return id\n"),
+    ("L15", "from math import gcd\n\n\ndef f(gcd):\n    return gcd\n"),
+    ("L15", "A = [[1]]\n"),
+    ("L16", "import math\n"),
+    ("L17", "def f():\n    return 'an enum'\n"),
+    ("L18", "class A:\n    pass\n\n\ndef f():\n    return [A]\n"),
+    ("L18", "def f(x):\n    return x.nowhere\n"),
+    ("L19", "def f(e):\n    raise e\n"),
+    ("L19", "def f():\n    try:\n        return 1\n    except Exception:\n        return 2\n"),
+    ("L20", "def f(x, y):\n    return x is y\n"),
+    ("L21", "def f(x: int):\n    return x\n"),
+    ("L22", "def f(x):\n    return sum([x], key=1)\n"),
+    ("L22", "def f(x):\n    return f(x, 1)\n"),
+    ("L22", "def f(x):\n    return [len, x]\n"),
+    ("L23", "def f(x):\n    k = zip(x, x)\n    return k\n"),
+    ("L23", "def f(x):\n    return g(range(x))\n\n\ndef g(x):\n    return x\n"),
+    ("L23", "def f(x):\n    yield x\n\n\ndef g(x):\n    k = f(x)\n    return k\n"),
+    ("L23", "def f(xs):\n    for x in xs:\n        xs.append(x)\n"),
+    ("L24", "def f(xs):\n    k = set(xs)\n    return k\n"),
+    ("L25", "def f(x):\n    return x.intersection(x)\n"),
+    ("L26", "class A:\n    def decode(self):\n        return 1\n"),
+    ("L26", "class A:\n    def __init__(self):\n        self.items = 1\n"),
+    ("L27", "def f(x, y):\n    return x ** y\n"),
+    ("L27", "def f():\n    return 'a%'\n"),
+    ("L28", "class A:\n    def __init__(self):\n        return None\n"),
+    ("L28", "class A:\n    def __len__(self):\n        return 1 + 1\n"),
+]
+
+
+def sources():
+    return {path.name: path.read_text(encoding="utf-8") for path in sorted(FOLDER.glob("*.py"))}
+
+
+class Rules(unittest.TestCase):
+    def test_the_package_keeps_the_rules(self):
+        self.assertEqual(faults(sources()), [])
+
+    def test_the_folder_contains_nothing_else(self):
+        names = [path.name for path in FOLDER.iterdir() if path.name != "__pycache__"]
+        self.assertEqual([name for name in names if not name.endswith(".py")], [])
+        self.assertIn("__init__.py", names)
+        self.assertLessEqual(len(names), 100)
+
+    def test_each_wrong_file_is_seen(self):
+        for rule, text in WRONG:
+            with self.subTest(rule=rule, text=text[:60]):
+                self.assertIn(rule, [found[2] for found in faults({"other.py": "N = 1\n", "wrong.py": text})])
+
+    def test_files_that_import_from_each_other_are_seen(self):
+        texts = {"one.py": "from leastgates.two import B\n\nA = 1\n", "two.py": "from leastgates.one import A\n\nB = 1\n"}
+        self.assertEqual({found[2] for found in faults(texts)}, {"L16"})
+
+    def test_a_right_file_has_no_faults(self):
+        text = ('"""A file."""\n\nfrom math import gcd\n\nA = (1, "x")\n\n\ndef f(xs, *, k=A):\n    """A function."""\n'
+                '    found = []\n    for at, x in enumerate(xs):\n        found.append(gcd(at, x))\n'
+                '    return sorted(set(found)), k\n')
+        self.assertEqual(faults({"right.py": text}), [])
+
+
+class Interface(unittest.TestCase):
+    def test_each_name_is_defined_in_its_file(self):
+        for name, words in DEFINED.items():
+            module = importlib.import_module("leastgates." + name)
+            for word in words.split():
+                with self.subTest(module=name, name=word):
+                    self.assertEqual(getattr(module, word).__module__, module.__name__)
+
+    def test_parameters(self):
+        for (name, word), told in PARAMETERS.items():
+            module = importlib.import_module("leastgates." + name)
+            with self.subTest(module=name, name=word):
+                self.assertEqual(str(inspect.signature(getattr(module, word))), told)
+
+
+if __name__ == "__main__":
+    unittest.main()
