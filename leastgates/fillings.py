@@ -25,20 +25,25 @@ def wrong_at(net, world, holders, lot, row):
     capacities, places, whole = good_held(net, world, holders, lot)
     entries = good_row(net.many, row)
     need_held(places, whole)
-    gates = net.gates(whole)
-    for tie in range(net.many):
-        if not may_stand(net, capacities, whole, gates, entries, tie):
-            return "tie", tie
-    led = led_out(net, entries)
-    for place in whole:
-        if led[place] < 0 or led[place] > 0 and place not in places:
-            return "place", place
-    return None
+    return wrong_of(net, capacities, places, whole, entries)
 
 
 def filling_of(net, world, holders, lot):
     """A filling of a lot that the holders hold: the entries of a greatest flow at the lot."""
     return kept_at(net, lot, greatest_row(net, world, holders, rest(net.size, lot)))
+
+
+def wrong_of(net, world, holders, lot, row):
+    """Where the row is no filling, None if it is one; nothing is checked."""
+    gates = net.gates(lot)
+    for tie in range(net.many):
+        if not may_stand(net, world, lot, gates, row, tie):
+            return "tie", tie
+    led = led_out(net, row)
+    for place in lot:
+        if led[place] < 0 or led[place] > 0 and place not in holders:
+            return "place", place
+    return None
 
 
 def kept_at(net, lot, row):

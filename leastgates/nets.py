@@ -1,6 +1,6 @@
 """Nets of places and ties, one-way and two-way."""
 
-from leastgates.checks import good_lot, good_size, good_tie, is_index, is_row, need_apart
+from leastgates.checks import good_lot, good_size, good_tie, is_pair, is_row, need_apart
 from leastgates.errors import BadNet, NotTwoway, OtherKind
 
 MOST_TIES = 40
@@ -91,11 +91,6 @@ class Twoway(Net):
         """The ties with just one end in the lot."""
         places = good_lot(self.size, lot)
         return tuple([tie for tie, (a, b) in enumerate(self.ties) if (a in places) != (b in places)])
-
-
-def is_pair(size, value):
-    """True for a list or tuple of two places."""
-    return is_row(value) and len(value) == 2 and all([is_index(place, size) for place in value])
 
 
 def good_ends(size, ties):

@@ -1,6 +1,6 @@
 """Tables of the flows between all places of a two-way net."""
 
-from leastgates.checks import good_place, good_size, good_world, is_integer, is_row, need_two
+from leastgates.checks import good_place, good_size, good_world, is_integer, is_row, need_three
 from leastgates.errors import BadNumber, BadTable
 from leastgates.flows import flow_of
 from leastgates.nets import Twoway, check_twoway
@@ -56,9 +56,7 @@ def lesser_two(table, p, q, r):
     good_place("p", table.net.size, p)
     good_place("q", table.net.size, q)
     good_place("r", table.net.size, r)
-    need_two(p, q)
-    need_two(p, r)
-    need_two(q, r)
+    need_three(p, q, r)
     return min(table[p, q], table[q, r], table[p, r])
 
 

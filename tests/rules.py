@@ -112,7 +112,7 @@ class Package:
                     if isinstance(method, ast.FunctionDef):
                         self.own_methods.setdefault(method.name, []).append(method)
         for node in module.functions:
-            if any(isinstance(inner, (ast.Yield, ast.YieldFrom)) for inner in ast.walk(node)):
+            if is_generator(node):
                 self.generators.add(node.name)
         for node in ast.walk(module.tree):
             if isinstance(node, ast.Attribute) and isinstance(node.ctx, ast.Store):
@@ -132,6 +132,10 @@ def faults(sources):
     check_cycles(package)
     check_operators(package)
     return package.found
+
+
+def is_generator(node):
+    return any(isinstance(inner, (ast.Yield, ast.YieldFrom)) for inner in ast.walk(node))
 
 
 def is_doc(module, node):
@@ -291,6 +295,8 @@ def check_functions(package, module):
             package.report(module, node, "L4", "a bare * in a method of this name")
         if node.returns is not None or any(arg.annotation for arg in all_args(node)):
             package.report(module, node, "L21", "an annotation")
+        if node.name in package.generators and (not is_generator(node) or node.decorator_list):
+            package.report(module, node, "L23", f"{node.name} has the name of a generator, or a generator a decorator")
         if node.name.startswith("__") and not in_class:
             package.report(module, node, "L28", "a double-underscore function outside of a class")
 
@@ -340,8 +346,43 @@ def check_class_body(package, module, node):
             package.report(module, node, "L18", f"{name} is a method and an attribute")
         if name in BARRED_EVERYWHERE or name in BARRED_METHODS:
             package.report(module, node, "L26", f"a method called {name}")
+    for name in sorted(methods_above(package, node) & attributes_of(package, node)):
+        package.report(module, node, "L18", f"{name} is a method of a base class and an attribute")
+    for inner in node.body:
+        if isinstance(inner, ast.FunctionDef) and is_marked(inner, "staticmethod", "classmethod"):
+            check_class_method(package, module, inner)
     if "__getitem__" in names and "__iter__" not in names:
         package.report(module, node, "L5", "__getitem__ without __iter__")
+
+
+def methods_above(package, node):
+    """The names of all methods of the own bases of a class."""
+    found = set()
+    for base in node.bases:
+        if isinstance(base, ast.Name) and base.id in package.own_classes:
+            above = package.own_classes[base.id]
+            found |= {inner.name for inner in above.body if isinstance(inner, ast.FunctionDef)}
+            found |= methods_above(package, above)
+    return found
+
+
+def is_marked(node, *marks):
+    return any(isinstance(mark, ast.Name) and mark.id in marks for mark in node.decorator_list)
+
+
+def check_class_method(package, module, node):
+    """L5: the name of a static or class method is its own, and its class is only called and asked."""
+    if node.name in package.attributes or len(package.own_methods[node.name]) > 1 or node.name in BUILTIN_METHODS:
+        package.report(module, node, "L5", f"the name of the static or class method {node.name}")
+    if is_generator(node):
+        package.report(module, node, "L5", f"a yield in {node.name}")
+    if is_marked(node, "classmethod"):
+        for inner in ast.walk(node):
+            if isinstance(inner, ast.Name) and inner.id == "cls":
+                around = module.above(inner)
+                called = isinstance(around, ast.Call) and around.func is inner
+                if not called and not isinstance(around, ast.Attribute) or module.function_of(inner) is not node:
+                    package.report(module, inner, "L5", "cls is not called on the spot")
 
 
 def attributes_of(package, node):
@@ -539,7 +580,7 @@ def check_method_call(package, module, node):
         package.report(module, node, "L25", f"the method {name}")
     if name in BUILTIN_METHODS and node.keywords:
         package.report(module, node, "L25", f"keywords of {name}")
-    if name in ("items", "keys", "values") and not is_iterated(module, node):
+    if (name in ("items", "keys", "values") or name in package.generators) and not is_iterated(module, node):
         package.report(module, node, "L23", f"{name} is not iterated on the spot")
     if name == "join" and not isinstance(owner, ast.Constant):
         package.report(module, node, "L23", "join of something that is no literal")

@@ -51,6 +51,11 @@ def lies_in(one, other):
     return set(one) <= set(other)
 
 
+def parts_pair(lot, one, other):
+    """True if the lot has just one of two places."""
+    return (one in lot) != (other in lot)
+
+
 def is_twoway(net):
     return isinstance(net, Twoway)
 

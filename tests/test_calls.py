@@ -3,14 +3,22 @@
 import copy
 import unittest
 
+from leastgates.families import Family
 from leastgates.joining import Held
 from leastgates.nets import Net
-from tests.asks import ONE, all_asks
+from leastgates.serving import Judge
+from leastgates.trees import Tree
+from tests.asks import all_asks
+from tests.forms import ONE
 from tests.support import caught
 
 
 def seen(value):
-    """The value in a form that can be compared: nets and held lots by what they keep."""
+    """The value in a form that can be compared: nets, families and other objects by what they keep."""
+    if isinstance(value, Judge):
+        return seen(value.net), seen(value.family)
+    if isinstance(value, (Family, Tree)):
+        return type(value).__name__, [seen(item) for item in vars(value).values()]
     if isinstance(value, Net):
         return type(value).__name__, value.size, value.ties
     if isinstance(value, Held):
@@ -40,7 +48,7 @@ class Calls(unittest.TestCase):
 
     def test_a_refused_call_changes_nothing(self):
         for ask in all_asks():
-            for changes, _ in ask.later:
+            for changes, _ in ask.later + ask.last:
                 arguments = [copy.copy(value) for value in ask.good]
                 for at, value in changes.items():
                     arguments[at] = copy.copy(value)

@@ -48,7 +48,7 @@ def same(told, found):
 class Examples(unittest.TestCase):
     def test_each_example(self):
         found = examples()
-        self.assertGreaterEqual(len(found), 10)
+        self.assertGreaterEqual(len(found), 20)
         for name, rows, told in found:
             with self.subTest(module=name, rows=rows):
                 self.assertTrue(same(told, answer(rows)), answer(rows))
