@@ -68,6 +68,7 @@ def serves_two(net, family, lot, pair):
 
 
 def first_like(net, family, lots, lot, pair):
-    """The first of the lots that parts the pair and is alike to the lot."""
+    """The first of the lots that parts the pair and is alike to the lot; of four corners some one does."""
     one, other = pair
-    return [found for found in lots if parts(found, one, other) and alike_of(net, family, found, lot)][0]
+    found = [corner for corner in lots if parts(corner, one, other) and alike_of(net, family, corner, lot)]
+    return found[0]

@@ -1,6 +1,6 @@
 """Two-way nets in which what is far off is shrunk, and the pairs that stay settled there."""
 
-from leastgates.checks import good_lot, is_row, need_filled, need_listed, need_side
+from leastgates.checks import good_lot, is_row, need_listed, need_side
 from leastgates.errors import BadTable
 from leastgates.lots import minus, rest
 from leastgates.nets import check_twoway
@@ -40,7 +40,5 @@ def shrink_row(net, rows):
     need_listed(net.size)
     found = [net]
     for row in rows:
-        lot = good_lot(found[-1].size, row)
-        need_filled("lot", lot)
-        found.append(shrunk(found[-1], lot))
+        found.append(shrunk(found[-1], row))
     return found
