@@ -130,6 +130,12 @@ def need_family(net, family):
         raise OtherSize(family.many)
 
 
+def need_tree(net, tree):
+    """The tree is over as many places as the net has."""
+    if tree.size != net.size:
+        raise OtherSize(tree.size)
+
+
 def need_filled(name, lot):
     """The lot must have a place."""
     if not lot:

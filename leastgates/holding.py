@@ -2,6 +2,7 @@
 
 from leastgates.checks import good_lot, good_world, need_apart, need_filled, need_inside, need_listed, need_side
 from leastgates.costs import cost
+from leastgates.errors import NotHeld
 from leastgates.flows import flow_of
 from leastgates.leasts import last_of
 from leastgates.lots import lots_inside, minus, rest
@@ -21,9 +22,7 @@ def breaking_lot(net, world, holders, lot):
     """The greatest one of the cheapest lots between, None if the holders hold the lot."""
     capacities, places, whole = good_held(net, world, holders, lot)
     need_held(places, whole)
-    if is_held(net, capacities, places, whole):
-        return None
-    return last_of(net, capacities, places, rest(net.size, whole))
+    return breaking_of(net, capacities, places, whole)
 
 
 def holders_of(net, world, lot):
@@ -86,6 +85,20 @@ def is_held(net, world, holders, lot):
     """True if the holders hold the lot; nothing is checked."""
     # Nothing is outside of the lot of all places: the flow there is 0, as its cost.
     return flow_of(net, world, holders, rest(net.size, lot)) == cost(net, world, lot)
+
+
+def breaking_of(net, world, holders, lot):
+    """The breaking lot, None if the holders hold the lot; nothing is checked."""
+    if is_held(net, world, holders, lot):
+        return None
+    return last_of(net, world, holders, rest(net.size, lot))
+
+
+def need_holding(net, world, holders, lot):
+    """The holders hold the lot."""
+    cheaper = breaking_of(net, world, holders, lot)
+    if cheaper is not None:
+        raise NotHeld(cheaper)
 
 
 def single_holders(net, world, lot):

@@ -2,9 +2,8 @@
 
 from leastgates.checks import good_lot, good_place, good_world, need_inside, need_two
 from leastgates.costs import cost
-from leastgates.errors import NotHeld
 from leastgates.flows import flow_of
-from leastgates.holding import breaking_lot
+from leastgates.holding import need_holding
 
 
 def inner_flow(net, world, lot, one, other):
@@ -16,9 +15,7 @@ def inner_flow(net, world, lot, one, other):
 def made_holder(net, world, lot, holder, place):
     """True if the inner flow from the place to a holder is enough to make it a holder, too."""
     capacities, whole = good_inner(net, world, lot, ("holder", holder), ("place", place))
-    cheaper = breaking_lot(net, capacities, (holder,), whole)
-    if cheaper is not None:
-        raise NotHeld(cheaper)
+    need_holding(net, capacities, (holder,), whole)
     return inner_of(net, capacities, whole, place, holder) >= cost(net, capacities, whole)
 
 

@@ -1,9 +1,8 @@
 """Held lots, which join to held lots."""
 
-from leastgates.checks import good_lot, good_world
-from leastgates.errors import NotHeld, OtherKind
+from leastgates.errors import OtherKind
 from leastgates.fillings import filling_of
-from leastgates.holding import breaking_lot
+from leastgates.holding import good_held, need_held, need_holding
 from leastgates.lots import both, minus
 
 
@@ -16,13 +15,13 @@ class Held:
     """A lot of a net that some of its places hold in a world."""
 
     def __init__(self, net, world, holders, lot):
-        cheaper = breaking_lot(net, world, holders, lot)
-        if cheaper is not None:
-            raise NotHeld(cheaper)
+        capacities, places, whole = good_held(net, world, holders, lot)
+        need_held(places, whole)
+        need_holding(net, capacities, places, whole)
         self.net = net
-        self.world = good_world(net.many, world)
-        self.holders = good_lot(net.size, holders)
-        self.lot = good_lot(net.size, lot)
+        self.world = capacities
+        self.holders = places
+        self.lot = whole
 
     @property
     def row(self):

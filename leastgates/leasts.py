@@ -31,9 +31,7 @@ def is_least(net, world, sources, sinks, side):
     capacities, starts, ends = good_forms(net, world, sources, sinks)
     lot = good_lot(net.size, side)
     need_ends(starts, ends)
-    if not fits(starts, ends, lot):
-        return False
-    return cost(net, capacities, lot) == flow_of(net, capacities, starts, ends)
+    return is_least_of(net, capacities, starts, ends, lot)
 
 
 def fit_sides(size, sources, sinks):
@@ -54,6 +52,11 @@ def share(net, one, other, sources, sinks):
     need_listed(net.size)
     others = least_lots(net, there, starts, ends)
     return [side for side in least_lots(net, here, starts, ends) if side in others]
+
+
+def is_least_of(net, world, sources, sinks, lot):
+    """True if the lot is a least side; nothing is checked."""
+    return fits(sources, sinks, lot) and cost(net, world, lot) == flow_of(net, world, sources, sinks)
 
 
 def fits(sources, sinks, lot):

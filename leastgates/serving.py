@@ -152,10 +152,15 @@ def serving_of(net, family, holders, sinks):
 
 def pairs_settled(net, family):
     """The ascending list of all settled pairs; nothing is checked."""
+    return settled_of(net, family, pairs_of(net))
+
+
+def settled_of(net, family, pairs):
+    """The list of those of the pairs that are settled; nothing is checked."""
     middle = family.middle()
     boxes = {}
     found = []
-    for p, q in pairs_of(net):
+    for p, q in pairs:
         lot = last_of(net, middle, (p,), (q,))
         # Many pairs have the same last least side, so what it serves is worked out once.
         if lot not in boxes:

@@ -1,9 +1,9 @@
 """Trees over the places of a net, and the list of all trees."""
 
 from leastgates.checks import MOST_PLACES, good_lot, good_place, good_size, good_world, is_index, is_pair, is_row
-from leastgates.checks import need_listed
+from leastgates.checks import need_listed, need_tree
 from leastgates.costs import amount
-from leastgates.errors import BadLot, BadNumber, BadTree, OtherSize
+from leastgates.errors import BadLot, BadNumber, BadTree
 from leastgates.lots import parts
 from leastgates.nets import check_twoway
 
@@ -68,10 +68,7 @@ class Tree:
 
     def costs(self, net, world):
         """What the sides of the edges cost, edge by edge."""
-        check_twoway(net)
-        if net.size != self.size:
-            raise OtherSize(self.size)
-        capacities = good_world(net.many, world)
+        capacities = good_world_of(self, net, world)
         return tuple([amount(capacities, net.gates(side)) for side in self._sides])
 
     def total(self, net, world):
@@ -94,6 +91,13 @@ def all_trees(size):
     need_listed(size, MOST_IN_ALL_TREES)
     for edges in forests(size, size - 1):
         yield Tree(size, edges)
+
+
+def good_world_of(tree, net, world):
+    """The world of a two-way net over the places of the tree."""
+    check_twoway(net)
+    need_tree(net, tree)
+    return good_world(net.many, world)
 
 
 # What is joined already is told by labels, one for each place: places with equal labels are joined.

@@ -3,7 +3,8 @@
 from tests.asks_families import families_asks
 from tests.asks_nets import world_asks
 from tests.asks_pairs import pairs_asks
+from tests.asks_trees import trees_asks
 
 
 def all_asks():
-    return world_asks() + families_asks() + pairs_asks()
+    return world_asks() + families_asks() + pairs_asks() + trees_asks()

@@ -31,10 +31,14 @@ NOT_ROWS = (True, False, None, 0, 7, "01", b"01", {0: 1}, {0, 1}, range(2), 1.5)
 
 
 class Form:
-    """What makes an argument wrong by its form alone: pairs of a wrong value and its error."""
+    """What makes an argument wrong by its form alone: pairs of a wrong value and its error.
 
-    def __init__(self, wrong):
+    ordered tells that the order of the entries counts although the error is one for lots.
+    """
+
+    def __init__(self, wrong, ordered=False):
         self.wrong = wrong
+        self.ordered = ordered
 
 
 def size_form(name="size"):
@@ -126,10 +130,11 @@ class Ask:
     """A call; later lists, in order, changed arguments by index and the error due then.
 
     last lists the same for what is due behind TooMany; twoway tells that the net, the argument 0,
-    must be two-way.
+    must be two-way. big tells arguments by index that are too great by just one place, most such
+    that are just not too great; without it the one argument of big is made smaller.
     """
 
-    def __init__(self, name, call, *arguments, later=(), last=(), big=None, limit=9, twoway=False):
+    def __init__(self, name, call, *arguments, later=(), last=(), big=None, most=None, limit=9, twoway=False):
         self.name = name
         self.call = call
         self.good = [value for value, _ in arguments]
@@ -138,6 +143,7 @@ class Ask:
         self.last = list(last)
         self.twoway = twoway
         self.big = big
+        self.most = most
         self.limit = limit
 
 

@@ -52,7 +52,7 @@ BARRED_WORDS = set(
 BARRED_PARTS = ("dataclass", "overload", "contextmanager")
 BARRED_BEGINNINGS = ("_wall", "_pe_", "_dcw_", "_enum_", "_cm_", "_twin_re_", "_lay_", "_law_", "_stub_", "_sre")
 STATEMENTS = (ast.Assign, ast.AugAssign, ast.If, ast.While, ast.For, ast.Return, ast.Break, ast.Continue, ast.Pass,
-              ast.Raise, ast.Assert, ast.Try, ast.Expr, ast.FunctionDef, ast.Delete)
+              ast.Raise, ast.Assert, ast.Try, ast.Expr, ast.FunctionDef, ast.Delete, ast.With)
 AT_ONCE = {"range", "zip", "enumerate", "reversed"}
 TAKERS = {"list", "tuple", "dict", "sorted", "sum", "any", "all", "enumerate", "zip", "min", "max"}
 NEVER_GENERATORS = {"any", "all", "min", "max", "sum", "sorted"}
@@ -284,7 +284,8 @@ def check_functions(package, module):
             package.report(module, node, "L10", f"{node.name} has more than 40 lines")
         in_class = isinstance(module.above(node), ast.ClassDef)
         for mark in node.decorator_list:
-            if not in_class or ast.unparse(mark) not in ("property", "staticmethod", "classmethod"):
+            told = ("property", "staticmethod", "classmethod", node.name + ".setter")
+            if not in_class or ast.unparse(mark) not in told:
                 package.report(module, node, "L4", "a decorator")
         if node.args.posonlyargs:
             package.report(module, node, "L4", "a / among the parameters")
@@ -328,7 +329,10 @@ def check_class_body(package, module, node):
     names = []
     for inner in node.body:
         if isinstance(inner, ast.FunctionDef):
-            names.append(inner.name)
+            if is_setter(inner):
+                check_setter(package, module, node, inner)
+            else:
+                names.append(inner.name)
             if inner.name.startswith("__") and inner.name not in METHODS:
                 package.report(module, inner, "L5", inner.name)
             if inner.name in OPERATORS and len(inner.args.args) > 2 and inner.name != "__setitem__":
@@ -353,6 +357,19 @@ def check_class_body(package, module, node):
             check_class_method(package, module, inner)
     if "__getitem__" in names and "__iter__" not in names:
         package.report(module, node, "L5", "__getitem__ without __iter__")
+
+
+def is_setter(node):
+    return any(isinstance(mark, ast.Attribute) and mark.attr == "setter" for mark in node.decorator_list)
+
+
+def check_setter(package, module, node, setter):
+    """L5: a setter stands in the class of its property, below it, as (self, value)."""
+    above = [inner for inner in node.body if isinstance(inner, ast.FunctionDef) and inner.lineno < setter.lineno]
+    if not any(inner.name == setter.name and is_property(inner) for inner in above):
+        package.report(module, setter, "L5", f"no property above the setter {setter.name}")
+    if [arg.arg for arg in all_args(setter)] != ["self", "value"] or len(setter.decorator_list) != 1:
+        package.report(module, setter, "L5", f"the parameters or decorators of the setter {setter.name}")
 
 
 def methods_above(package, node):
@@ -412,6 +429,61 @@ def check_statements(package, module):
             package.report(module, module.above(node), "L7", "a / or @")
         if isinstance(node, (ast.Is, ast.IsNot)):
             check_is(package, module, module.above(node))
+
+
+def check_blocks(package, module):
+    """L6 With: what a with goes over, and what __exit__ may do."""
+    for node in ast.walk(module.tree):
+        if isinstance(node, ast.With):
+            check_with(package, module, node)
+        if isinstance(node, (ast.Yield, ast.YieldFrom)):
+            around = module.above(node)
+            while not isinstance(around, ast.FunctionDef):
+                if isinstance(around, (ast.With, ast.Try)):
+                    package.report(module, node, "L23", "a yield under a with or a try")
+                around = module.above(around)
+    for node in module.classes:
+        methods = {inner.name: inner for inner in node.body if isinstance(inner, ast.FunctionDef)}
+        if ("__enter__" in methods) != ("__exit__" in methods):
+            package.report(module, node, "L6", "__enter__ without __exit__, or the other way")
+        if "__exit__" in methods:
+            if [arg.arg for arg in all_args(methods["__exit__"])] != ["self", "kind", "value", "trace"]:
+                package.report(module, node, "L6", "the parameters of __exit__")
+            check_exit(package, module, methods["__exit__"])
+
+
+def check_with(package, module, node):
+    """A with goes over the call of an own class that has __enter__; its name, if any, is a plain one."""
+    if module.function_of(node) is None:
+        package.report(module, node, "L6", "a with outside of functions")
+    for item in node.items:
+        made = item.context_expr
+        name = made.func.id if isinstance(made, ast.Call) and isinstance(made.func, ast.Name) else ""
+        kind = package.own_classes.get(name)
+        if kind is None or "__enter__" not in [getattr(inner, "name", "") for inner in kind.body]:
+            package.report(module, node, "L6", "a with over something else than the call of a class with __enter__")
+        if item.optional_vars is not None and not isinstance(item.optional_vars, ast.Name):
+            package.report(module, node, "L6", "a with .. as something else than a name")
+
+
+def check_exit(package, module, node):
+    """The rows of __exit__: a name for an attribute of self, once, and attributes that are assigned plain things."""
+    taken = []
+    for row in node.body:
+        if is_doc(module, row):
+            continue
+        right = isinstance(row, ast.Assign) and len(row.targets) == 1
+        target = row.targets[0] if right else None
+        if isinstance(target, ast.Name):
+            right = isinstance(row.value, ast.Attribute) and ast.unparse(row.value.value) == "self" and not taken
+            taken.append(target.id)
+        elif isinstance(target, ast.Attribute):
+            right = ast.unparse(target.value) in ["self"] + taken
+            right = right and isinstance(row.value, (ast.Attribute, ast.Name, ast.Constant))
+        else:
+            right = False
+        if not right:
+            package.report(module, row, "L6", "a row that may not stand in __exit__")
 
 
 def check_is(package, module, node):
@@ -592,6 +664,8 @@ def check_read(package, module, node):
     """An attribute that is read without a call is one that a class assigns, a property or a class value."""
     around = module.above(node)
     if isinstance(around, ast.Call) and around.func is node:
+        return
+    if isinstance(around, ast.FunctionDef) and node in around.decorator_list:
         return
     values = {name for kind in package.own_classes.values() for part in kind.body for name in bound_names(part)}
     properties = {name for name, methods in package.own_methods.items() if any(is_property(m) for m in methods)}
@@ -797,4 +871,4 @@ def is_fresh(node):
 
 
 CHECKS = (check_text, check_words, check_imports, check_module_level, check_functions, check_classes, check_statements,
-          check_names, check_class_use, check_errors, check_calls, check_values, check_loops, check_methods)
+          check_blocks, check_names, check_class_use, check_errors, check_calls, check_values, check_loops, check_methods)

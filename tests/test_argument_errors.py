@@ -84,7 +84,8 @@ class ArgumentErrors(unittest.TestCase):
     def is_right_when_bigger(self, value):
         """What is wrong because the small net ends there: a place, a lot with it, or all places as a side."""
         if isinstance(value, (list, tuple)):
-            return 4 in value or set(map(repr, value)) == set("0123")
+            nested = any(self.is_right_when_bigger(item) for item in value if isinstance(item, (list, tuple)))
+            return nested or 4 in value or set(map(repr, value)) == set("0123")
         return value == 4
 
     def test_twoway_comes_first(self):
@@ -133,6 +134,10 @@ class ArgumentErrors(unittest.TestCase):
         eight = {"fit_sides": 8, "all_sides": 8, "all_trees": 6}
         for ask in ASKS:
             if ask.big is None:
+                continue
+            if ask.most is not None:
+                with self.subTest(ask=ask.name):
+                    ask.call(*[ask.most.get(at, value) for at, value in enumerate(ask.good)])
                 continue
             at, value = next(iter(ask.big.items()))
             if isinstance(value, int):

@@ -39,6 +39,14 @@ DEFINED = {
     "standing": "stands around around_world inside_lot",
     "far": "far_shrunk near_pairs pairs_behind shrink_row",
     "trees": "Tree all_trees",
+    "cuttrees": "is_cut_tree cheaper_side cut_tree cut_trees least_total flow_on uncrossed",
+    "ranks": "ranks greatest_tree tree_ranks flows_sum matched_edges",
+    "nearby": "least_dist greatest_dist trees_raised trees_lowered common_trees holders_by",
+    "bearing": "bears_raises raise_that_breaks",
+    "groves": "Grove",
+    "steps": "first_grove refine full_grove",
+    "onetree": "one_tree is_one_tree failing middle_tree stuck_lot tree_of",
+    "splits": "matched sides_number parts_number grove_from thinned_tree common_tree",
 }
 PARAMETERS = {
     ("lots", "all_sides"): "(size, *, with_place=None)",
@@ -123,6 +131,32 @@ PARAMETERS = {
     ("far", "shrink_row"): "(net, rows)",
     ("trees", "Tree"): "(size, edges)",
     ("trees", "all_trees"): "(size)",
+    ("cuttrees", "cheaper_side"): "(net, world, tree)",
+    ("cuttrees", "cut_trees"): "(net, world)",
+    ("cuttrees", "flow_on"): "(tree, net, world, one, other)",
+    ("cuttrees", "uncrossed"): "(side, branch, post)",
+    ("ranks", "ranks"): "(net, world)",
+    ("ranks", "tree_ranks"): "(tree, net, world)",
+    ("ranks", "flows_sum"): "(tree, net, world)",
+    ("ranks", "matched_edges"): "(tree, other)",
+    ("nearby", "least_dist"): "(net, world, tie)",
+    ("nearby", "trees_lowered"): "(net, world, tie)",
+    ("nearby", "common_trees"): "(net, one, other)",
+    ("nearby", "holders_by"): "(tree, net, world, at)",
+    ("bearing", "bears_raises"): "(net, tree, ties)",
+    ("bearing", "raise_that_breaks"): "(net, world, tree, ties)",
+    ("groves", "Grove"): "(net, family, lots, edges, posts)",
+    ("steps", "first_grove"): "(net, family)",
+    ("steps", "refine"): "(grove, one, other)",
+    ("steps", "full_grove"): "(net, family, *, start=None, last=False)",
+    ("onetree", "failing"): "(net, family, tree)",
+    ("onetree", "stuck_lot"): "(net, family)",
+    ("onetree", "tree_of"): "(grove)",
+    ("splits", "matched"): "(grove, other)",
+    ("splits", "parts_number"): "(net, family)",
+    ("splits", "grove_from"): "(net, family, sides)",
+    ("splits", "thinned_tree"): "(net, family, tree, *, backwards=False)",
+    ("splits", "common_tree"): "(net, worlds)",
 }
 METHODS = {
     ("families", "Told", "gap"): "(self, plus, minus)",
@@ -140,6 +174,12 @@ METHODS = {
     ("trees", "Tree", "side"): "(self, at)",
     ("trees", "Tree", "way"): "(self, one, other)",
     ("trees", "Tree", "costs"): "(self, net, world)",
+    ("groves", "Grove", "side"): "(self, at)",
+    ("groves", "Grove", "lot_at"): "(self, place)",
+    ("groves", "Grove", "way"): "(self, one, other)",
+    ("groves", "Grove", "serving"): "(self, one, other)",
+    ("groves", "Grove", "told_pairs"): "(self)",
+    ("groves", "Grove", "words"): "(self)",
 }
 
 WRONG = [
@@ -160,6 +200,21 @@ WRONG = [
     ("L5", "class A:\n    def __getitem__(self, at):\n        return at\n"),
     ("L5", "def f():\n    return [NotImplemented]\n"),
     ("L6", "def f(x):\n    with x:\n        pass\n"),
+    ("L6", "class A:\n    def __enter__(self):\n        return self\n"),
+    ("L6", "class A:\n    def __enter__(self):\n        return self\n\n    def __exit__(self, kind, value, trace):\n"
+           "        f(self)\n\n\ndef f(x):\n    return x\n"),
+    ("L6", "class A:\n    def __enter__(self):\n        return self\n\n    def __exit__(self, kind, value):\n"
+           "        self.n = 1\n"),
+    ("L6", "class A:\n    def __enter__(self):\n        return self\n\n    def __exit__(self, kind, value, trace):\n"
+           "        self.n = self.n + 1\n"),
+    ("L6", "class A:\n    def __init__(self):\n        self.n = 1\n\n\ndef f():\n    with A():\n        return 1\n"),
+    ("L23", "class A:\n    def __enter__(self):\n        return self\n\n    def __exit__(self, kind, value, trace):\n"
+            "        self.n = 1\n\n\ndef f():\n    with A():\n        yield 1\n"),
+    ("L5", "class A:\n    @n.setter\n    def n(self, value):\n        self.m = value\n"),
+    ("L5", "class A:\n    @property\n    def n(self):\n        return 1\n\n    @n.setter\n    def n(self, x, y):\n"
+           "        self.m = x\n"),
+    ("L4", "class A:\n    @property\n    def n(self):\n        return 1\n\n    @n.deleter\n    def n(self):\n"
+           "        self.m = 1\n"),
     ("L6", "def f():\n    try:\n        return 1\n    finally:\n        pass\n"),
     ("L6", "def f(x):\n    if (k := x):\n        return k\n"),
     ("L7", "def f(x):\n    return x / 2\n"),

@@ -2,55 +2,15 @@
 
 import inspect
 import unittest
-from itertools import combinations
 from random import Random
 
 from leastgates import errors as e
 from leastgates.nets import Oneway, Twoway
 from leastgates.tables import FlowTable
 from leastgates.trees import Tree, all_trees
-from tests.support import check_error, counted_cost, parts_pair, random_net, small_cases, some
-
-MOST = 10 ** 30
-
-
-def reached(size, edges, place):
-    """All places that the edges join to a place."""
-    found = {place}
-    while True:
-        more = {b for edge in edges for a, b in (edge, edge[::-1]) if a in found} - found
-        if not more:
-            return tuple(sorted(found))
-        found |= more
-
-
-def joins(size, edges):
-    return len(reached(size, edges, 0)) == size
-
-
-def counted_trees(size):
-    """The edges of all trees, in order."""
-    pairs = list(combinations(range(size), 2))
-    return [edges for edges in combinations(pairs, size - 1) if joins(size, edges)]
-
-
-def counted_side(size, edges, at):
-    others = [edge for number, edge in enumerate(edges) if number != at]
-    return reached(size, others, edges[at][0])
-
-
-def counted_way(size, edges, one, other):
-    return tuple(at for at in range(len(edges)) if parts_pair(counted_side(size, edges, at), one, other))
-
-
-def random_edges(random, size):
-    """The edges of some tree, each place but the first joined to one ahead of it, renamed."""
-    names = random.sample(range(size), size)
-    return [(names[at], names[random.randrange(at)]) for at in range(1, size)]
-
-
-def two_cases(seed, count, **more):
-    return [case for case in small_cases(seed, 2 * count, **more) if isinstance(case[0], Twoway)]
+from tests.support import check_error, counted_cost, random_net, some
+from tests.woods import (MOST, counted_side, counted_trees, counted_way, joins, random_edges, reached, told_edges,
+                         two_cases)
 
 
 class Trees(unittest.TestCase):
@@ -92,7 +52,7 @@ class Trees(unittest.TestCase):
             for _ in range(6):
                 edges = random_edges(random, size)
                 tree = Tree(size, edges)
-                told = tuple(sorted(tuple(sorted(edge)) for edge in edges))
+                told = told_edges(edges)
                 self.assertEqual(tree.edges, told)
                 for at, (p, q) in enumerate(told):
                     self.assertEqual(tree.side(at), counted_side(size, told, at))
