@@ -111,7 +111,7 @@ class ArgumentErrors(unittest.TestCase):
         """The call answers for another kind of net, or refuses for what its lots cost there alone."""
         try:
             ask.call(net, *ask.good[1:])
-        except (e.NotHeld, e.NotAFilling):
+        except (e.NotHeld, e.NotAFilling, e.NotLeast):
             pass
 
     def test_generators_raise_at_the_first_item(self):

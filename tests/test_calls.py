@@ -3,12 +3,14 @@
 import copy
 import unittest
 
+from leastgates.desks import Desk
 from leastgates.families import Family
 from leastgates.groves import Grove
 from leastgates.joining import Held
 from leastgates.nets import Net
 from leastgates.serving import Judge
 from leastgates.trees import Tree
+from leastgates.trials import Trial
 from tests.asks import all_asks
 from tests.forms import ONE
 from tests.support import caught
@@ -18,6 +20,10 @@ def seen(value):
     """The value in a form that can be compared: nets, families and other objects by what they keep."""
     if isinstance(value, Judge):
         return seen(value.net), seen(value.family)
+    if isinstance(value, Desk):
+        return seen(value.net), value.stretches.pairs, value.lost, value.now.pairs, value.open_pairs(), len(value)
+    if isinstance(value, Trial):
+        return seen(value.desk), value.ended
     if isinstance(value, Grove):
         return seen(value.net), seen(value.family), value.lots, value.edges, value.posts
     if isinstance(value, (Family, Tree)):

@@ -1,6 +1,7 @@
 """Each example of shared/DOC.md that stands under the heading of a module that exists."""
 
 import ast
+import doctest
 import pathlib
 import unittest
 
@@ -52,6 +53,13 @@ class Examples(unittest.TestCase):
         for name, rows, told in found:
             with self.subTest(module=name, rows=rows):
                 self.assertTrue(same(told, answer(rows)), answer(rows))
+
+
+class Readme(unittest.TestCase):
+    def test_each_example(self):
+        found = doctest.testfile(str(ROOT / "README.md"), module_relative=False)
+        self.assertEqual(found.failed, 0)
+        self.assertGreaterEqual(found.attempted, 15)
 
 
 if __name__ == "__main__":

@@ -3,11 +3,13 @@
 import importlib
 import inspect
 import pathlib
+import re
 import unittest
 
 from tests.rules import faults
 
 FOLDER = pathlib.Path(__file__).resolve().parent.parent / "leastgates"
+DOC = FOLDER.parent.parent / "shared" / "DOC.md"
 DEFINED = {
     "lots": "lot_of both common minus rest parts all_sides lots_between corners crosses",
     "nets": "Net Oneway Twoway check_twoway all_lot",
@@ -47,6 +49,15 @@ DEFINED = {
     "steps": "first_grove refine full_grove",
     "onetree": "one_tree is_one_tree failing middle_tree stuck_lot tree_of",
     "splits": "matched sides_number parts_number grove_from thinned_tree common_tree",
+    "wholeleast": "is_whole_least whole_least whole_cost whole_chain whole_edge",
+    "gluings": "cut_family trees_glued",
+    "rings": "is_ring ring_order found_ring least_tie ring_tree ring_worlds forest_tree",
+    "rooms": "room best_room rise_that_breaks bears_change held_room",
+    "papers": "asked is_half_paper lean_half_paper forced_ties is_paper is_tree_paper lean_tree_paper "
+              "fewest_tree_paper",
+    "desks": "Desk",
+    "trials": "Trial tried_loss tried",
+    "listings": "tie_line listing",
 }
 PARAMETERS = {
     ("lots", "all_sides"): "(size, *, with_place=None)",
@@ -157,6 +168,36 @@ PARAMETERS = {
     ("splits", "grove_from"): "(net, family, sides)",
     ("splits", "thinned_tree"): "(net, family, tree, *, backwards=False)",
     ("splits", "common_tree"): "(net, worlds)",
+    ("wholeleast", "is_whole_least"): "(net, family, side)",
+    ("wholeleast", "whole_least"): "(net, family)",
+    ("wholeleast", "whole_cost"): "(net, world)",
+    ("wholeleast", "whole_chain"): "(net, stretches, tie)",
+    ("wholeleast", "whole_edge"): "(grove)",
+    ("gluings", "cut_family"): "(family, first, last)",
+    ("gluings", "trees_glued"): "(tree, other)",
+    ("rings", "ring_order"): "(net)",
+    ("rings", "least_tie"): "(net, family)",
+    ("rings", "ring_tree"): "(net, tie)",
+    ("rings", "ring_worlds"): "(net, top)",
+    ("rooms", "room"): "(net, world, tree)",
+    ("rooms", "best_room"): "(net, world)",
+    ("rooms", "rise_that_breaks"): "(net, world, tree)",
+    ("rooms", "bears_change"): "(net, world, tree, change)",
+    ("rooms", "held_room"): "(net, world, holders, lot)",
+    ("papers", "asked"): "(stretches, world, ties)",
+    ("papers", "is_half_paper"): "(net, stretches, world, holders, lot, ties)",
+    ("papers", "lean_half_paper"): "(net, stretches, world, holders, lot, ties)",
+    ("papers", "forced_ties"): "(net, stretches, world, holders, lot)",
+    ("papers", "is_paper"): "(net, stretches, world, holders, sinks, side, ties)",
+    ("papers", "is_tree_paper"): "(net, stretches, world, tree, ties)",
+    ("papers", "lean_tree_paper"): "(net, stretches, world, tree, ties)",
+    ("papers", "fewest_tree_paper"): "(net, stretches, world, tree)",
+    ("desks", "Desk"): "(net, stretches, *, lost=())",
+    ("trials", "Trial"): "(desk)",
+    ("trials", "tried_loss"): "(desk, tie)",
+    ("trials", "tried"): "(desk, rows)",
+    ("listings", "tie_line"): "(desk, tie)",
+    ("listings", "listing"): "(desk)",
 }
 METHODS = {
     ("families", "Told", "gap"): "(self, plus, minus)",
@@ -180,6 +221,17 @@ METHODS = {
     ("groves", "Grove", "serving"): "(self, one, other)",
     ("groves", "Grove", "told_pairs"): "(self)",
     ("groves", "Grove", "words"): "(self)",
+    ("desks", "Desk", "ask"): "(self, tie, amount)",
+    ("desks", "Desk", "narrow"): "(self, tie, low, high)",
+    ("desks", "Desk", "reset"): "(self, tie, low, high)",
+    ("desks", "Desk", "lose"): "(self, tie)",
+    ("desks", "Desk", "find"): "(self, tie)",
+    ("desks", "Desk", "back"): "(self)",
+    ("desks", "Desk", "is_settled"): "(self, one, other)",
+    ("desks", "Desk", "side_for"): "(self, one, other)",
+    ("desks", "Desk", "flow_ends"): "(self, one, other)",
+    ("desks", "Desk", "regret_of"): "(self, side, one, other)",
+    ("desks", "Desk", "finish"): "(self, world)",
 }
 
 WRONG = [
@@ -294,6 +346,15 @@ class Rules(unittest.TestCase):
 
 
 class Interface(unittest.TestCase):
+    @unittest.skipUnless(DOC.is_file(), "shared/DOC.md is not here")
+    def test_each_heading_has_its_file(self):
+        sections = re.split(r"^## leastgates/(\w+)\.py$", DOC.read_text(encoding="utf-8"), flags=re.M)[1:]
+        self.assertEqual(set(sections[::2]), set(DEFINED) | {"errors"})
+        for name, text in zip(sections[::2], sections[1::2]):
+            for word in DEFINED.get(name, "").split():
+                with self.subTest(module=name, name=word):
+                    self.assertRegex(text, r"\b" + word + r"[(:]")
+
     def test_each_name_is_defined_in_its_file(self):
         for name, words in DEFINED.items():
             module = importlib.import_module("leastgates." + name)
