@@ -18,7 +18,7 @@ from leastgates.trees import joined_labels
 
 def matched(grove, other):
     """Pairs of an edge of each of two groves whose sides are alike, each edge once; None if there are none."""
-    if not (grove.net == other.net and grove.family == other.family):
+    if grove.net != other.net or grove.family != other.family:
         raise OtherKind()
     left = list(range(other.many))
     found = []

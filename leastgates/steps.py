@@ -45,7 +45,7 @@ def begun_grove(net, family, start):
     """The grove that full_grove begins with."""
     if start is None:
         return first_grove(net, family)
-    if not start.net == net:
+    if start.net != net:
         raise OtherKind()
     return Grove(net, family, start.lots, start.edges, start.posts)
 

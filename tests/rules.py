@@ -13,6 +13,8 @@ import tokenize
 import warnings
 
 PACKAGE = "leastgates"
+# Doctests leave their last answer as a builtin called _.
+BUILTINS = set(dir(builtins)) - {"_"}
 
 LIBRARY = {"heapq": {"heappush", "heappop", "heapify", "heapreplace", "heappushpop"},
            "math": {"gcd", "lcm", "isqrt", "comb", "perm", "factorial"},
@@ -166,7 +168,7 @@ def check_text(package, module):
                 package.report(module, number, "L17", part)
         if "__getitem__" in package.own_methods and re.search(r"\(type\)|\bMeta\b|metaclass=", line):
             package.report(module, number, "L17", "a word that is barred beside __getitem__")
-    if not re.fullmatch(r"[a-z_][a-z0-9_]*\.py", module.name) or module.name[:-3] in dir(builtins):
+    if not re.fullmatch(r"[a-z_][a-z0-9_]*\.py", module.name) or module.name[:-3] in BUILTINS:
         package.report(module, 1, "L14", "the name of the file")
     if re.match(r"law_|test|site\.|conftest|sitecustomize|usercustomize", module.name):
         package.report(module, 1, "L14", "the name of the file")
@@ -495,7 +497,7 @@ def check_is(package, module, node):
 def check_names(package, module):
     bound = module.imported | {node.name for node in module.classes}
     for name, node in bound_in_functions(module):
-        if name in dir(builtins) or name in BARRED_NAMES:
+        if name in BUILTINS or name in BARRED_NAMES:
             package.report(module, node, "L15", f"{name} is the name of a builtin or a barred one")
         if name in bound:
             package.report(module, node, "L15", f"{name} is the name of a class or an import of the file")
@@ -503,7 +505,7 @@ def check_names(package, module):
             package.report(module, node, "L12", name)
     for node in module.tree.body:
         for name in bound_names(node):
-            if name in dir(builtins) or name in BARRED_NAMES:
+            if name in BUILTINS or name in BARRED_NAMES:
                 package.report(module, node, "L15", f"{name} is the name of a builtin or a barred one")
     for node in ast.walk(module.tree):
         if isinstance(node, ast.Attribute):
@@ -512,7 +514,7 @@ def check_names(package, module):
             if node.attr.startswith("__") and not is_base_call(module, node):
                 package.report(module, node, "L8", node.attr)
         if isinstance(node, ast.Name) and isinstance(node.ctx, ast.Load):
-            if node.id in dir(builtins) and node.id not in ALLOWED_BUILTINS:
+            if node.id in BUILTINS and node.id not in ALLOWED_BUILTINS:
                 package.report(module, node, "L8", node.id)
             if node.id == "_":
                 package.report(module, node, "L12", "_ is read")
@@ -592,7 +594,7 @@ def check_calls(package, module):
 
 def check_name_call(package, module, node, name):
     keywords = {keyword.arg for keyword in node.keywords}
-    if name in dir(builtins):
+    if name in BUILTINS:
         if not keywords <= KEYWORDS.get(name, set()):
             package.report(module, node, "L22", f"keywords of {name}")
         if name in NEVER_GENERATORS and any(isinstance(arg, ast.GeneratorExp) for arg in node.args):
@@ -680,7 +682,7 @@ def is_property(node):
 def check_builtin_value(package, module, node):
     """A builtin function is called, not stored or passed on; error classes are only raised and caught."""
     around = module.above(node)
-    if node.id not in dir(builtins) or isinstance(around, ast.Call) and around.func is node:
+    if node.id not in BUILTINS or isinstance(around, ast.Call) and around.func is node:
         return
     if isinstance(around, (ast.ClassDef, ast.Attribute, ast.FunctionDef, ast.ExceptHandler, ast.Return, ast.keyword)):
         return
