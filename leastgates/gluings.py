@@ -1,7 +1,7 @@
 """Families and trees of nets that are glued at a place."""
 
 from leastgates.changes import Losses, Moves
-from leastgates.checks import MOST_PLACES, is_integer
+from leastgates.checks import is_integer
 from leastgates.errors import BadNumber
 from leastgates.families import Either, Listed, Told, parts_of
 from leastgates.stretches import Stretches
@@ -43,6 +43,4 @@ def cut_leaf(family, first, last):
 def trees_glued(tree, other):
     """The tree with the edges of both, the last place of the one being the place 0 of the other."""
     by = tree.size - 1
-    if by + other.size > MOST_PLACES:
-        raise BadNumber("size")
     return Tree(by + other.size, list(tree) + [(p + by, q + by) for p, q in other])

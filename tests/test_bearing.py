@@ -88,6 +88,16 @@ class Raises(unittest.TestCase):
         self.assertEqual(raise_that_breaks(net, (2, 2, 0), Tree.chain([0, 1, 2]), (0, 1)), None)
         self.check_broken(net, (2, 2, 0), Tree.chain([0, 1, 2]), (2, 1))
 
+    def test_worlds_of_zeros(self):
+        net = Twoway(3, [(0, 1), (1, 2), (0, 2), (1, 1)])
+        for edges in counted_trees(3):
+            for ties in subsets(range(4)):
+                tree = Tree(3, edges)
+                if bears_raises(net, tree, ties):
+                    self.assertIsNone(raise_that_breaks(net, (0, 0, 0, 0), tree, ties))
+                else:
+                    self.check_broken(net, (0, 0, 0, 0), tree, ties)
+
     def test_errors(self):
         net = Twoway(3, [(0, 1), (1, 2), (0, 2)])
         star = Tree.star(3, 0)

@@ -14,6 +14,10 @@ from tests.support import check_error, counted_holds, random_net, rest_of, some
 from tests.woods import MOST, Wood, counted_side, counted_trees, counted_way, two_cases
 
 CASES = two_cases(970, 30, least=1, most=5, ties=7, top=3)
+# Rings and webs in which many trees are cut trees.
+CASES += [(Twoway(size, [(p, (p + 1) % size) for p in range(size)]), (1,) * size) for size in (3, 4, 5)]
+CASES += [(Twoway(4, [(0, 1), (1, 2), (2, 3), (3, 0), (0, 2)]), world)
+          for world in ((2, 2, 2, 2, 0), (1, 2, 1, 2, 1), (2, 1, 1, 2, 0), (3, 3, 3, 3, 3))]
 
 
 class OneTie(unittest.TestCase):
@@ -26,6 +30,7 @@ class OneTie(unittest.TestCase):
                 self.assertEqual(found, (min(dists), max(dists)))
 
     def test_raised_and_lowered_by_1(self):
+        fewer = 0
         for net, world in CASES:
             trees = Wood(net, world).trees()
             for tie in range(net.many):
@@ -44,6 +49,8 @@ class OneTie(unittest.TestCase):
                     found = trees_lowered(net, world, tie)
                     self.assertEqual((type(found), [tree.edges for tree in found]), (list, still))
                     self.assertEqual(least_total(net, world) - lower.least(), greatest_dist(net, world, tie))
+                    fewer += len(still) < len(trees)
+        self.assertGreater(fewer, 5)
 
     def test_raised_again_and_again(self):
         for net, world in two_cases(971, 10, least=2, most=4, ties=5):
@@ -75,6 +82,9 @@ class OneTie(unittest.TestCase):
         for function in (least_dist, greatest_dist, trees_raised, trees_lowered):
             check_error(self, lambda: function(big, world, 3), e.TooMany, 7)
         check_error(self, lambda: common_trees(big, world, world), e.TooMany, 7)
+        # No cut tree in common is no answer for seven places either.
+        ring = Twoway(7, [(0, 1), (0, 2), (1, 2)])
+        check_error(self, lambda: common_trees(ring, (1, 2, 2), (3, 2, 2)), e.TooMany, 7)
         check_error(self, lambda: trees_lowered(net, world, 3), e.BadNumber, "tie")
 
 

@@ -330,7 +330,7 @@ class OtherFamilies(unittest.TestCase):
     def test_two_ties_made_one(self):
         random = Random(1161)
         for net, family, worlds, counted in CASES:
-            if family.WORD not in ("told", "listed", "stretches") or net.many == 0:
+            if family.WORD not in ("told", "listed", "stretches", "moves") or net.many == 0:
                 continue
             tie = random.randrange(net.many)
             more = Twoway(net.size, net.ties + (net.ties[tie][::-1],))
@@ -339,8 +339,12 @@ class OtherFamilies(unittest.TestCase):
                 longer = Stretches(family.pairs + ((low, high),))
                 rows = [(a + low * (at == tie), b + high * (at == tie)) for at, (a, b) in enumerate(family.pairs)]
                 summed = Stretches(rows)
+            elif family.WORD != "listed":
+                end, more_told = random.randint(0, 3), (family.change,) if family.WORD == "moves" else ()
+                longer = type(family)(family.world + (end,), *more_told)
+                summed = type(family)([u + end * (at == tie) for at, u in enumerate(family.world)], *more_told)
             else:
-                choices = [family.world] if family.WORD == "told" else family.choices
+                choices = family.choices
                 ends = [random.randint(0, 3) for _ in choices]
                 longer = Listed(*[world + (end,) for world, end in zip(choices, ends)])
                 summed = Listed(*[[u + end * (at == tie) for at, u in enumerate(world)]
@@ -372,6 +376,8 @@ class OtherFamilies(unittest.TestCase):
                 small = full_grove(shrunk(net, lot), family)
                 grove = self.lifted_grove(net, family, lot, holders[0], small)
                 self.assertEqual(grove.many, small.many)
+                if one_tree(net, family) is not None:
+                    self.assertIsNotNone(one_tree(shrunk(net, lot), family))
                 inside = [pair for pair in settled if not less(pair, lot)]
                 self.assertLessEqual(small.many, sides_number(net, family))
                 self.assertIs(small.many == sides_number(net, family), not inside)

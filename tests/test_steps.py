@@ -120,7 +120,8 @@ class FullGroves(unittest.TestCase):
             for last in (False, True):
                 told = self.by_steps(first_grove(net, family), settled, last)
                 self.assertEqual(parts_of_grove(full_grove(net, family, last=last)), parts_of_grove(told))
-            self.assertEqual(parts_of_grove(full_grove(net, family)), parts_of_grove(full_grove(net, family)))
+            self.assertEqual(parts_of_grove(full_grove(net, family)),
+                             parts_of_grove(self.by_steps(first_grove(net, family), settled, False)))
 
     def test_from_any_start(self):
         random = Random(108)
