@@ -32,7 +32,7 @@ def cut_leaf(family, first, last):
     if isinstance(family, Told):
         return Told(family.world[first:last])
     if isinstance(family, Listed):
-        return Listed(*[world[first:last] for world in family.choices])
+        return Listed.of_list([world[first:last] for world in family.choices])
     if isinstance(family, Losses):
         return Losses(family.world[first:last], family.number)
     if isinstance(family, Moves):

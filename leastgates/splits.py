@@ -105,7 +105,7 @@ def common_tree(net, worlds):
     check_twoway(net)
     if not is_row(worlds) or len(worlds) == 0:
         raise NoWorld()
-    return one_tree(net, Listed(*[good_world(net.many, world) for world in worlds]))
+    return one_tree(net, Listed.of_list([good_world(net.many, world) for world in worlds]))
 
 
 def good_sides(size, sides):

@@ -592,6 +592,27 @@ def check_calls(package, module):
             check_builtin_value(package, module, node)
 
 
+def check_stars(package, module):
+    """L7: behind the star of a call stand only names, attributes off a name, literals, and lists and tuples of these."""
+    for node in ast.walk(module.tree):
+        if isinstance(node, ast.Call):
+            for arg in [arg.value for arg in node.args if isinstance(arg, ast.Starred)]:
+                if not is_starred_plainly(arg):
+                    package.report(module, node, "L7", "a star before something else than a name")
+            behind = [at for at, arg in enumerate(node.args) if isinstance(arg, ast.Starred)]
+            for arg in node.args[behind[0]:] if behind else []:
+                if not isinstance(arg, ast.Starred) and not is_starred_plainly(arg):
+                    package.report(module, node, "L7", "behind a star something else than a name")
+
+
+def is_starred_plainly(node):
+    if isinstance(node, ast.Attribute):
+        return isinstance(node.value, ast.Name)
+    if isinstance(node, (ast.List, ast.Tuple)):
+        return all(is_starred_plainly(item) for item in node.elts)
+    return isinstance(node, (ast.Name, ast.Constant))
+
+
 def check_name_call(package, module, node, name):
     keywords = {keyword.arg for keyword in node.keywords}
     if name in BUILTINS:
@@ -873,4 +894,5 @@ def is_fresh(node):
 
 
 CHECKS = (check_text, check_words, check_imports, check_module_level, check_functions, check_classes, check_statements,
-          check_blocks, check_names, check_class_use, check_errors, check_calls, check_values, check_loops, check_methods)
+          check_blocks, check_names, check_class_use, check_errors, check_calls, check_stars, check_values, check_loops,
+          check_methods)

@@ -270,6 +270,8 @@ WRONG = [
     ("L6", "def f():\n    try:\n        return 1\n    finally:\n        pass\n"),
     ("L6", "def f(x):\n    if (k := x):\n        return k\n"),
     ("L7", "def f(x):\n    return x / 2\n"),
+    ("L7", "def f(*xs):\n    return xs\n\n\ndef g(xs):\n    return f(*[x for x in xs])\n"),
+    ("L7", "def f(*xs):\n    return xs\n\n\ndef g(xs):\n    return f(*xs, g(xs))\n"),
     ("L7", "def f(x):\n    return x * 1.5\n"),
     ("L7", "def f(xs):\n    return any(x for x in xs)\n"),
     ("L8", "def f(x):\n    return hash(x)\n"),
