@@ -3,17 +3,25 @@
 import copy
 import unittest
 
+from leastgates.costs import amount, net_told
+from leastgates.cuttrees import uncrossed
 from leastgates.desks import Desk
 from leastgates.families import Family
 from leastgates.groves import Grove
-from leastgates.joining import Held
-from leastgates.nets import Net
+from leastgates.joining import Held, joined
+from leastgates.leftover import closed
+from leastgates.lots import both, common, minus, parts, rest
+from leastgates.nets import Net, Oneway, Twoway, all_lot
 from leastgates.serving import Judge
+from leastgates.shapes import glued
+from leastgates.tables import net_of_table
+from leastgates.texts import net_from, net_text
 from leastgates.trees import Tree
 from leastgates.trials import Trial
 from tests.asks import all_asks
 from tests.forms import ONE
 from tests.support import caught
+from tests.test_rules import DEFINED
 
 
 def seen(value):
@@ -46,7 +54,35 @@ def kept(value):
     return seen(value)
 
 
+# The calls that stand in no table of asks, as most of them check nothing: a function and its arguments.
+OTHERS = {
+    "both": (both, [2, 0], [1, 2]), "common": (common, [2, 0], [1, 2]), "minus": (minus, [2, 0], [1, 2]),
+    "rest": (rest, 4, [2, 0]), "parts": (parts, [2, 0], 1, 2), "all_lot": (all_lot, ONE),
+    "Oneway": (Oneway, 3, [[0, 1], (1, 2)]), "Twoway": (Twoway, 3, [[0, 1], (1, 2)]),
+    "net_text": (net_text, ONE), "net_from": (net_from, "twoway 2\n0 1\n"), "amount": (amount, [3, 1, 2], [2, 0]),
+    "net_told": (net_told, [4, 3, 5], [5, 3, 4]), "glued": (glued, ONE, ONE, ONE),
+    "closed": (closed, [[0, 1], (1, 2)], [2, 1]), "net_of_table": (net_of_table, 2, [[0, 3], [3, 0]]),
+    "joined": (joined, (0,), (0, 1), (2,), (1, 2)), "uncrossed": (uncrossed, [2, 0], [3, 2], 2),
+}
+
+
 class Calls(unittest.TestCase):
+    def test_calls_that_check_nothing(self):
+        for name, (function, *arguments) in OTHERS.items():
+            before = [kept(value) for value in arguments]
+            with self.subTest(name=name):
+                self.assertEqual(seen(function(*arguments)), seen(function(*arguments)))
+                self.assertEqual(before, [kept(value) for value in arguments])
+
+    def test_each_name_of_the_interface_is_called(self):
+        words = set(OTHERS) | {"Net", "Family"}
+        for ask in all_asks():
+            words |= {ask.name, ask.name.split(" ")[0], ask.name.split(" ")[-1], ask.name.split(".")[0]}
+        for name, defined in DEFINED.items():
+            for word in defined.split():
+                with self.subTest(module=name, name=word):
+                    self.assertIn(word, words)
+
     def test_no_argument_is_changed(self):
         for ask in all_asks():
             arguments = [copy.copy(value) for value in ask.good]

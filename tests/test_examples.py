@@ -1,4 +1,4 @@
-"""Each example of shared/DOC.md that stands under the heading of a module that exists."""
+"""Each example of shared/DOC.md, and those of README.md."""
 
 import ast
 import doctest
@@ -25,7 +25,7 @@ def examples():
             rows = []
         elif rows:
             raise AssertionError(f"an example without an answer under {name}")
-    return [example for example in found if (ROOT / example[0]).is_file()]
+    return found
 
 
 def answer(rows):
@@ -49,8 +49,9 @@ def same(told, found):
 class Examples(unittest.TestCase):
     def test_each_example(self):
         found = examples()
-        self.assertGreaterEqual(len(found), 20)
+        self.assertGreaterEqual(len(found), 33)
         for name, rows, told in found:
+            self.assertTrue((ROOT / name).is_file(), name)
             with self.subTest(module=name, rows=rows):
                 self.assertTrue(same(told, answer(rows)), answer(rows))
 
